@@ -1,0 +1,1 @@
+"""Furrow: nests of loops, gone through in another order."""

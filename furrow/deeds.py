@@ -1,0 +1,55 @@
+"""Programs and their deeds, and the turns of the plain run."""
+
+from furrow.terms import placed
+
+
+class Deed:
+    def __init__(self, names, lows, highs, table, spots, term, path):
+        self.names = names
+        self.lows = lows
+        self.highs = highs
+        self.table = table
+        self.spots = spots
+        self.term = term
+        self.path = path
+
+
+class Program:
+    def __init__(self, size, deeds):
+        self.size = size
+        # A copy: what the asker does to the list later is not the program's.
+        self.deeds = list(deeds)
+
+
+def shared(one, other):
+    # Only the paths tell one loop from another: loops side by side may have
+    # the same name and bounds.
+    depth = min(len(one.names), len(other.names))
+    for e in range(depth):
+        if one.path[e] != other.path[e]:
+            return e
+    return depth
+
+
+def named(deed, values):
+    return dict(zip(deed.names, values))
+
+
+def within(deed, values):
+    known = named(deed, values)
+    lows = placed(deed.lows, known)
+    highs = placed(deed.highs, known)
+    for low, value, high in zip(lows, values, highs):
+        if value < low or value > high:
+            return False
+    return True
+
+
+def ahead(program, one, other):
+    # The deeds are looked up at each call, since one may have been taken out
+    # of the program's list by now.
+    depth = shared(program.deeds[one[0]], program.deeds[other[0]])
+    for e in range(depth):
+        if one[1][e] != other[1][e]:
+            return one[1][e] < other[1][e]
+    return one[0] < other[0]
