@@ -53,3 +53,32 @@ def ahead(program, one, other):
         if one[1][e] != other[1][e]:
             return one[1][e] < other[1][e]
     return one[0] < other[0]
+
+
+def nested(deeds):
+    # The program as its text has it: each item is a pair of a deed's number
+    # and None, or of the first deed in a loop and the items of that loop.
+    return items_within(deeds, list(range(len(deeds))), 0)
+
+
+def items_within(deeds, numbers, depth):
+    items = []
+    for group in neighbours(deeds, numbers, depth):
+        k = group[0]
+        if len(deeds[k].names) == depth:
+            items.append((k, None))
+        else:
+            items.append((k, items_within(deeds, group, depth + 1)))
+    return items
+
+
+def neighbours(deeds, numbers, depth):
+    # Only whether numbers of paths are alike counts: where a deed was taken
+    # out, the paths of the others leave a number out.
+    groups = []
+    for k in numbers:
+        if groups and deeds[groups[-1][0]].path[depth] == deeds[k].path[depth]:
+            groups[-1].append(k)
+        else:
+            groups.append([k])
+    return groups

@@ -30,6 +30,12 @@ UNUSED = """register mro elements open input version_info with_traceback add_not
 breakpoint builtins compile copyright credits delattr dir eval exec exit gc getattr globals hasattr
 help id importlib license locals methodcaller os quit setattr super vars sys""".split()
 FILE_WORDS = "test tests testing site conftest sitecustomize usercustomize".split()
+LAZY = ("zip", "enumerate", "reversed", "range")
+WALKERS = ("list", "tuple", "dict", "sorted", "sum", "any", "all", "enumerate", "zip")
+KEYWORDS = {"sorted": ("key", "reverse"), "min": ("key", "default"), "max": ("key", "default"),
+            "sum": ("start",), "enumerate": ("start",), "zip": ("strict",)}
+CHANGES = "append clear extend insert pop remove reverse setdefault update".split()
+READS = "get index count items keys values copy".split()
 KINDS_OF_PYTHON = (str, int, list, dict, set, bytes, tuple)
 
 
@@ -193,10 +199,114 @@ def name_faults(node, own_methods):
             yield "L25", node.lineno
 
 
+def parents_of(tree):
+    return {child: node for node in ast.walk(tree) for child in ast.iter_child_nodes(node)}
+
+
+def called(node):
+    """The name of what a call calls, where it is a name."""
+    return node.func.id if isinstance(node, ast.Call) and isinstance(node.func, ast.Name) else None
+
+
+def called_method(node):
+    call = isinstance(node, ast.Call) and isinstance(node.func, ast.Attribute)
+    return node.func.attr if call else None
+
+
+def walked(node, parent):
+    """Whether what a node makes is walked on the spot (L23)."""
+    if isinstance(parent, (ast.For, ast.comprehension)):
+        return parent.iter is node
+    if called(parent) in WALKERS:
+        return parent.args[:1] == [node] or called(parent) == "zip"
+    if called(parent) in ("min", "max"):
+        return parent.args == [node]
+    return called_method(parent) == "join" and isinstance(parent.func.value, ast.Constant)
+
+
+def set_in_place(node, parents):
+    """Whether a set stands where one may (L24)."""
+    parent = parents[node]
+    while isinstance(parent, ast.BinOp):
+        node, parent = parent, parents[parent]
+    if isinstance(parent, ast.Compare):
+        return all(isinstance(op, (ast.In, ast.NotIn, ast.Eq, ast.NotEq)) for op in parent.ops)
+    return called(parent) in ("sorted", "len") and not parent.keywords
+
+
+def placed_faults(tree):
+    """L22, L23, L24: what hangs on where a call stands."""
+    parents = parents_of(tree)
+    for node in ast.walk(tree):
+        if called(node) in LAZY or called_method(node) in ("items", "keys", "values"):
+            if not walked(node, parents[node]):
+                yield "L23", node.lineno
+        if called(node) in ("set", "frozenset") or isinstance(node, ast.Set):
+            if not set_in_place(node, parents):
+                yield "L24", node.lineno
+        if called(node) in PYTHON_NAMES or called_method(node) in PYTHON_METHODS:
+            if any(word.arg not in KEYWORDS.get(called(node), ()) for word in node.keywords):
+                yield "L22", node.lineno
+        kept = isinstance(node, ast.Name) and node.id in LAZY + WALKERS
+        if kept and not (called(parents[node]) and parents[node].func is node):
+            if not isinstance(parents[node], (ast.keyword, ast.Tuple)) and called(parents[node]) != "isinstance":
+                yield "L22", node.lineno
+
+
+def changed_in_its_walk(node):
+    """Whether a loop changes what it walks (L23)."""
+    walked_names = [part.id for part in ast.walk(node.iter) if isinstance(part, ast.Name)]
+    for part in [part for row in node.body for part in ast.walk(row)]:
+        owner = None
+        if called_method(part) in CHANGES:
+            owner = part.func.value
+        elif isinstance(part, ast.Subscript) and isinstance(part.ctx, ast.Store):
+            owner = part.value
+        straight = isinstance(node.iter, ast.Name) or called(node.iter) in ("enumerate", "zip", "reversed")
+        if straight and isinstance(owner, ast.Name) and owner.id in walked_names:
+            return True
+    return False
+
+
+def kept_faults(tree):
+    """L15, L23: names that hide others, and lists and dicts that may only be read."""
+    hidden = {alias.asname or alias.name for node in tree.body if isinstance(node, ast.ImportFrom)
+              for alias in node.names}
+    hidden |= {node.name for node in tree.body if isinstance(node, ast.ClassDef)}
+    kept = {node.targets[0].id for node in tree.body
+            if isinstance(node, ast.Assign) and isinstance(node.value, (ast.List, ast.Dict))}
+    parents = parents_of(tree)
+    for node in ast.walk(tree):
+        within = parents.get(node) is not tree and not isinstance(node, ast.ClassDef)
+        if within and set(bound_names(node)) & hidden:
+            yield "L15", node.lineno
+        if isinstance(node, ast.Name) and node.id in kept and isinstance(node.ctx, ast.Load):
+            parent = parents[node]
+            indexed = isinstance(parent, ast.Subscript) and isinstance(parent.ctx, ast.Load)
+            asked = isinstance(parent, ast.Attribute) and parent.attr in READS
+            if not (indexed or asked or isinstance(parent, (ast.Compare, ast.For, ast.comprehension))
+                    or called(parent) in WALKERS + ("len",)):
+                yield "L15", node.lineno
+        if isinstance(node, ast.For) and changed_in_its_walk(node):
+            yield "L23", node.lineno
+
+
+def taken_faults(tree):
+    """L19: errors of Python's own are taken only in a try with one plain step in it."""
+    for node in ast.walk(tree):
+        if not isinstance(node, ast.Try):
+            continue
+        names = {part.id for handler in node.handlers for part in ast.walk(handler.type or handler)
+                 if isinstance(part, ast.Name)}
+        if names & {"ValueError", "LookupError", "IndexError"} and len(node.body) != 1:
+            yield "L19", node.lineno
+
+
 def faults_of(source, own_methods=OWN_METHODS):
     """The faults of one file, as pairs of a rule and a row."""
     tree = ast.parse(source)
-    found = list(text_faults(source)) + list(top_faults(tree))
+    found = list(text_faults(source)) + list(top_faults(tree)) + list(placed_faults(tree))
+    found += list(kept_faults(tree)) + list(taken_faults(tree))
     for node in ast.walk(tree):
         if type(node).__name__ not in NODES:
             found.append(("L6, L7", getattr(node, "lineno", 0)))
@@ -295,6 +405,34 @@ WRONG = (
     ("def f(x):\n    x.values = 1\n", "L26"),
     ("def f(x):\n    return 2 ** x\n", "L27"),
     ("def f():\n    try:\n        f()\n    except Exception:\n        pass\n", "L19"),
+    ("def f(x):\n    try:\n        x = 1\n        int(x)\n    except ValueError:\n        pass\n", "L19"),
+    ("from furrow.terms import placed\n\n\ndef f(placed):\n    return placed\n", "L15"),
+    ("class A:\n    pass\n\n\ndef f():\n    A = 1\n    return A\n", "L15"),
+    ("A = {}\n\n\ndef f():\n    A[1] = 2\n", "L15"),
+    ("A = []\n\n\ndef f():\n    return A\n", "L15"),
+    ("A = []\n\n\ndef f():\n    A.append(1)\n", "L15"),
+    ("def f(x):\n    return x.split(sep=' ')\n", "L22"),
+    ("def f(x):\n    return int(x, base=2)\n", "L22"),
+    ("def f():\n    return sorted\n", "L22"),
+    ("def f():\n    return range(3)\n", "L23"),
+    ("def f(x):\n    y = zip(x, x)\n    return list(y)\n", "L23"),
+    ("def f(x):\n    return x.items()\n", "L23"),
+    ("def f(x):\n    return 3 in range(x)\n", "L23"),
+    ("def f(x):\n    for y in x:\n        x.append(y)\n", "L23"),
+    ("def f(x):\n    for y, z in enumerate(x):\n        x[y] = z\n", "L23"),
+    ("def f(x):\n    y = set(x)\n    return y\n", "L24"),
+    ("def f(x):\n    for y in set(x):\n        pass\n", "L24"),
+)
+
+
+RIGHT = (
+    '"""Top."""\n\nA = (1, -2)\n\n\ndef f(x):\n    return [y + 1 for y in x if y > 0]\n',
+    "A = {1: 2}\n\n\ndef f(x):\n    return A[x] + A.get(x, 0) + len(A) + (x in A)\n",
+    "def f(x):\n    for y, z in zip(x, range(3)):\n        x = y + z\n    return list(enumerate(x, start=1))\n",
+    "def f(x):\n    for y in list(x):\n        x.pop(y)\n    return sorted(x, key=len, reverse=True)\n",
+    "def f(x, y):\n    return len(set(x) - set(y)) + (x in {1, 2})\n",
+    "def f(x):\n    return isinstance(x, (int, tuple)) or isinstance(x, list)\n",
+    "def f(x):\n    return ' '.join(reversed(x))\n",
 )
 
 
@@ -304,9 +442,10 @@ class TheLook(unittest.TestCase):
             with self.subTest(source=source):
                 self.assertIn(rule, [fault[0] for fault in faults_of(source)])
 
-    def test_a_right_form_is_let_be(self):
-        source = '"""Top."""\n\nA = (1, -2)\n\n\ndef f(x):\n    return [y + 1 for y in x if y > 0]\n'
-        self.assertEqual(faults_of(source), [])
+    def test_right_forms_are_let_be(self):
+        for source in RIGHT:
+            with self.subTest(source=source):
+                self.assertEqual(faults_of(source), [])
 
 
 if __name__ == "__main__":
