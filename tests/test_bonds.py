@@ -5,21 +5,9 @@ import random
 import unittest
 
 from furrow.bonds import settled
+from tests.helper import has_values, holds, is_ring
 
 MOST = 10 ** 20
-
-
-def has_values(count, bonds):
-    """Whether bonds have values, told by the shortest chains between all unknowns."""
-    far = [[0 if x == y else None for y in range(count)] for x in range(count)]
-    for x, y, c in bonds:
-        if far[x][y] is None or c < far[x][y]:
-            far[x][y] = c
-    for z, x, y in itertools.product(range(count), repeat=3):
-        if far[x][z] is not None and far[z][y] is not None:
-            if far[x][y] is None or far[x][z] + far[z][y] < far[x][y]:
-                far[x][y] = far[x][z] + far[z][y]
-    return all(far[x][x] >= 0 for x in range(count))
 
 
 class Settled(unittest.TestCase):
@@ -32,8 +20,7 @@ class Settled(unittest.TestCase):
         self.assertEqual(len(answer[1]), count)
         self.assertEqual({type(value) for value in answer[1]}, {int})
         self.assertEqual(answer[1][0], 0)
-        for x, y, c in bonds:
-            self.assertLessEqual(answer[1][x] - answer[1][y], c)
+        self.assertTrue(holds(bonds, answer[1]), bonds)
         return answer[1]
 
     def ring(self, count, bonds):
@@ -43,13 +30,10 @@ class Settled(unittest.TestCase):
         self.assertEqual(len(answer), 2)
         ring = answer[1]
         self.assertIs(type(ring), list)
-        self.assertGreater(len(ring), 0)
         self.assertEqual({type(number) for number in ring}, {int})
         self.assertTrue(all(0 <= number < len(bonds) for number in ring))
         self.assertEqual(len(ring), len(set(ring)))
-        for number, following in zip(ring, ring[1:] + ring[:1]):
-            self.assertEqual(bonds[number][1], bonds[following][0])
-        self.assertLess(sum(bonds[number][2] for number in ring), 0)
+        self.assertTrue(is_ring([bonds[number] for number in ring]), bonds)
         return ring
 
     def looked_at(self, count, bonds):

@@ -7,26 +7,11 @@ from furrow.deeds import Deed, Program
 from furrow.errors import FurrowError, NoText
 from furrow.reader import read
 from furrow.terms import Cell, Joined, Number, Term, Value
+from tests.helper import told, told_term
 
 GREATEST = 10 ** 18 - 1
 EIGHTEEN = "9" * 18
 NINETEEN = "1" + "0" * 18
-
-
-def told_term(term):
-    """A term as texts, numbers and tuples, which can be compared."""
-    if isinstance(term, Number):
-        return term.n
-    if isinstance(term, Value):
-        return term.name
-    if isinstance(term, Cell):
-        return ("cell", term.table, term.spots)
-    return (term.sign, told_term(term.left), told_term(term.right))
-
-
-def told(program):
-    return (program.size, [(deed.names, deed.lows, deed.highs, deed.table, deed.spots,
-                            told_term(deed.term), deed.path) for deed in program.deeds])
 
 
 def term_read(text):
@@ -344,7 +329,8 @@ class Cells(Refusals):
                      "for[0]", "end[0]", "size[0]", "a[-0]", "a[00]", "a[01]", "a[+1]",
                      f"a[{NINETEEN}]", f"a[i+{NINETEEN}]", f"a[-{NINETEEN}]", "a[-i]", "a[i+j]",
                      "a[1+i]", "a[i*2]", "a[i--1]", "a[i+-1]", "a[(i)]", "a[a[0]]", "a[i,j]",
-                     "a[12", "a[i+12", "a[0][12", "a[ij", "a[k]", "a[0][k+1]", "a[a]", "a[0][0][0][0]", "a[0]-[0]", "a(0)", "a[i]]["):
+                     "a[12", "a[i+12", "a[0][12", "a[ij", "a[k]", "a[0][k+1]", "a[a]", "a[0][0][0][0]",
+                     "a[0]-[0]", "a(0)", "a[i]]["):
             self.refused_row(cell + " = 1", ahead=loops)
             self.refused_row("z[0] = " + cell, ahead=loops)
             self.refused_row("z[0] = 1 + " + cell, ahead=loops)

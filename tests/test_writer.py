@@ -8,25 +8,10 @@ from furrow.deeds import Deed, Program
 from furrow.reader import read
 from furrow.terms import Cell, Joined, Number, Value
 from furrow.writer import written, written_term
+from tests.helper import told, told_term
 
 GREATEST = 10 ** 18 - 1
 SIGNS = "+-*"
-
-
-def told_term(term):
-    """A term as texts, numbers and tuples, which can be compared."""
-    if isinstance(term, Number):
-        return term.n
-    if isinstance(term, Value):
-        return term.name
-    if isinstance(term, Cell):
-        return ("cell", term.table, term.spots)
-    return (term.sign, told_term(term.left), told_term(term.right))
-
-
-def told(program):
-    return (program.size, [(deed.names, deed.lows, deed.highs, deed.table, deed.spots,
-                            told_term(deed.term), deed.path) for deed in program.deeds])
 
 
 def loose(term, path=(0,)):
