@@ -16,8 +16,10 @@ class Walk:
 def turns(program, most):
     items = nested(program.deeds)
     walk = Walk(program.deeds, most)
+    # Counted ahead of being told: what is refused is not listed first.
     take_room(walk, deeds_among(items))
-    go_items(walk, items, ())
+    count_loops(walk, items, ())
+    tell_items(walk, items, ())
     return walk.told
 
 
@@ -31,24 +33,41 @@ def deeds_among(items):
     return len([k for k, inner in items if inner is None])
 
 
-def go_items(walk, items, values):
+def count_loops(walk, items, values):
+    for k, inner in items:
+        if inner is not None:
+            count_loop(walk, k, inner, values)
+
+
+def count_loop(walk, k, items, values):
+    bounds = bounds_of(walk.deeds[k], values)
+    many = max(bounds[1] - bounds[0] + 1, 0)
+    deeds = deeds_among(items)
+    # All values at once, ahead of the first one: a loop of too many is then
+    # refused however many they are.
+    take_room(walk, many * (1 + deeds))
+    if deeds < len(items):
+        for value in range(bounds[0], bounds[1] + 1):
+            count_loops(walk, items, values + (value,))
+
+
+def bounds_of(deed, values):
+    e = len(values)
+    return placed((deed.lows[e], deed.highs[e]), named(deed, values))
+
+
+def tell_items(walk, items, values):
     for k, inner in items:
         if inner is None:
             walk.told.append((k, values))
         else:
-            go_loop(walk, k, inner, values)
+            tell_loop(walk, k, inner, values)
 
 
-def go_loop(walk, k, items, values):
-    deed = walk.deeds[k]
-    e = len(values)
-    bounds = placed((deed.lows[e], deed.highs[e]), named(deed, values))
-    many = max(bounds[1] - bounds[0] + 1, 0)
-    # All at once, ahead of the first value: a loop of too many values is then
-    # refused however many they are.
-    take_room(walk, many * (1 + deeds_among(items)))
+def tell_loop(walk, k, items, values):
+    bounds = bounds_of(walk.deeds[k], values)
     for value in range(bounds[0], bounds[1] + 1):
-        go_items(walk, items, values + (value,))
+        tell_items(walk, items, values + (value,))
 
 
 def done(program, turns, cells):

@@ -174,6 +174,11 @@ class TooManyTurns(unittest.TestCase):
         deeds = "a[0] = 1\n" * 6
         self.refused(read(f"size 9\nfor i 1 {'9' * 18}\n{deeds}end"), 7 * GREATEST - 1)
 
+    def test_a_great_number_and_still_more_turns(self):
+        for text in ("size 9\nfor i 1 1000000000\nfor j 1 1000000000\na[i] = j\nend\nend",
+                     "size 9\nfor i 1 1000\nfor j i 1000000000\na[i] = j\nb[i] = j\nend\na[i] = 1\nend"):
+            self.refused(read(text), 10 ** 12)
+
     def test_it_is_a_refusal_of_its_own(self):
         try:
             turns(read("size 9\na[0] = 1"), 0)
