@@ -24,11 +24,15 @@ class Program:
 def shared(one, other):
     # Only the paths tell one loop from another: loops side by side may have
     # the same name and bounds.
-    depth = min(len(one.names), len(other.names))
-    for e in range(depth):
-        if one.path[e] != other.path[e]:
+    return alike_numbers(one.path, other.path, min(len(one.names), len(other.names)))
+
+
+def alike_numbers(path, other, most):
+    # How many numbers, of the first most ones, two paths begin with alike.
+    for e in range(most):
+        if path[e] != other[e]:
             return e
-    return depth
+    return most
 
 
 def named(deed, values):

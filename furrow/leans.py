@@ -56,14 +56,21 @@ def order_bonds(many, case, behind):
 
 def leanings(program):
     found = []
-    for k, a, l, b in meets(program):
-        for case in cases(program, k, l):
-            found.append((k, a, l, b, case, answer_of(program, k, a, l, b, case)))
+    for k, a, l, b, case in cases_met(program):
+        bonds = case_bonds(program, k, a, l, b, case)
+        found.append((k, a, l, b, case, answer_of(program, k, l, bonds)))
     return found
 
 
-def answer_of(program, k, a, l, b, case):
-    bonds = case_bonds(program, k, a, l, b, case)
+def cases_met(program):
+    found = []
+    for k, a, l, b in meets(program):
+        for case in cases(program, k, l):
+            found.append((k, a, l, b, case))
+    return found
+
+
+def answer_of(program, k, l, bonds):
     behind = 1 + len(program.deeds[k].names)
     answer = settled(behind + len(program.deeds[l].names), bonds)
     if answer[0] == "ring":

@@ -19,7 +19,12 @@ def turns(program, most):
     # Counted ahead of being told: what is refused is not listed first.
     take_room(walk, deeds_among(items))
     count_loops(walk, items, ())
-    tell_items(walk, items, ())
+    return every_turn(program.deeds)
+
+
+def every_turn(deeds):
+    walk = Walk(deeds, 0)
+    tell_items(walk, nested(deeds), ())
     return walk.told
 
 

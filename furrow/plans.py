@@ -1,6 +1,6 @@
 """Plans: what fits a program, and what stands where in a plan."""
 
-from furrow.deeds import nested
+from furrow.deeds import alike_numbers, nested
 
 MOST_PAIRS = 6
 MOST_SHIFT = 1000000000000000000
@@ -77,3 +77,17 @@ def stand(plan, k):
         if number == k:
             return (path, places)
     return None
+
+
+def round_both(plan, k, l):
+    # Of each sweep round both deeds, from outside: its path, whether it is
+    # cut, its way, and the pairs that k and l have there.
+    one = stand(plan, k)
+    other = stand(plan, l)
+    found = []
+    items = plan
+    for level in range(alike_numbers(one[0], other[0], min(len(one[1]), len(other[1])))):
+        item = items[one[0][level]]
+        found.append((one[0][:level + 1], item[1], item[2], one[1][level], other[1][level]))
+        items = item[3]
+    return found

@@ -359,7 +359,8 @@ class ThePackage(unittest.TestCase):
         self.assertEqual(methods & values, set())
 
     def test_names_are_drawn_from_the_very_file_that_defines_them(self):
-        made = {stem: {name for node in tree.body for name in bound_names(node)}
+        made = {stem: {name for node in tree.body for part in [node, *getattr(node, "targets", [])]
+                       for name in bound_names(part)}
                 for stem, tree in trees().items()}
         for tree in trees().values():
             for node in tree.body:

@@ -1,4 +1,4 @@
-"""The names and arguments that the document's interface tells, of what is built by now."""
+"""The names and arguments that the document's interface tells."""
 
 import importlib
 import inspect
@@ -23,6 +23,11 @@ INTERFACE = {
     "leans": ("meets(program)", "cases(program, k, l)", "case_bonds(program, k, a, l, b, case)",
               "leanings(program)"),
     "plans": ("fits(program, plan)", "own_plan(program)", "sweeps_of(plan)", "stand(plan, k)"),
+    "times": ("ends(program, plan)", "order_of(program, plan, widths, one, other)"),
+    "cases": ("sides(program, plan, k, l)", "side_bonds(program, plan, k, l, level, side)"),
+    "looker": ("looked(program, plan)",),
+    "maker": ("made(program, plan)",),
+    "weaver": ("woven(lists, picks)", "order(code, widths, picks)"),
 }
 
 

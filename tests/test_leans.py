@@ -9,7 +9,7 @@ from furrow.plain import turns
 from furrow.reader import read
 from furrow.terms import placed
 from furrow.touch import touches
-from tests.helper import holds, is_ring
+from tests.helper import holds, is_ring, place_of
 
 GREATEST = 10 ** 18 - 1
 
@@ -30,11 +30,6 @@ TEXTS = (
     "size 97\nb[1] = 4\nfor k -2 0\nfor i 1 k+1\nb[i] = b[1]+k\nend\nend\nb[0] = b[1]-9",
     "size 97\nfor i 0 2\nfor j i 2\nfor k j i+1\na[k][j] = a[j][k]+c[i]*c[0]\nend\nend\nend",
 )
-
-
-def place_of(program, turn, touch):
-    deed = program.deeds[turn[0]]
-    return placed(touches(deed)[touch][2], named(deed, turn[1]))
 
 
 def case_of(program, one, other):

@@ -8,20 +8,9 @@ import unittest
 from furrow.deeds import Program
 from furrow.plans import fits, own_plan, stand, sweeps_of
 from furrow.reader import read
+from tests.helper import cut, deed, sweep
 
 SHIFT = 10 ** 18
-
-
-def sweep(*items, cut=False, way="up"):
-    return ("sweep", cut, way, items)
-
-
-def cut(*items, way="up"):
-    return ("sweep", True, way, items)
-
-
-def deed(k, *places):
-    return ("deed", k, places)
 
 
 def nest(many, more=""):
