@@ -3,7 +3,7 @@
 from furrow.deeds import Deed, Program
 from furrow.errors import NoText
 from furrow.terms import Cell, Joined, Number, Term, Value
-from furrow.words import is_name, number_of, spot_of
+from furrow.words import bare_row, is_name, number_of, spot_of, words_of
 
 MOST_DEEDS = 6
 MOST_LOOPS = 3
@@ -32,7 +32,7 @@ def read(text):
     rows = text.split("\n")
     draft = Draft()
     for line, row in enumerate(rows, start=1):
-        bare = row.partition(";")[0].strip(" ")
+        bare = bare_row(row)
         if bare != "" and not taken(draft, bare):
             raise NoText(line)
     if draft.size is None or draft.deeds == [] or draft.names != []:
@@ -41,7 +41,7 @@ def read(text):
 
 
 def taken(draft, row):
-    words = [word for word in row.split(" ") if word != ""]
+    words = words_of(row)
     if draft.size is None:
         return size_taken(draft, words)
     if words[0] == "for":

@@ -51,3 +51,11 @@ def fallen(parts):
     if is_name(parts[0]) or (parts[0] == "" and number > 0):
         return (parts[0], -number)
     return None
+
+
+def bare_row(row):
+    return row.partition(";")[0].strip(" ")
+
+
+def words_of(row):
+    return [word for word in row.split(" ") if word != ""]

@@ -28,6 +28,10 @@ INTERFACE = {
     "looker": ("looked(program, plan)",),
     "maker": ("made(program, plan)",),
     "weaver": ("woven(lists, picks)", "order(code, widths, picks)"),
+    "turnings": ("swapped(plan, path)", "joined(plan, path)", "parted(plan, path, n)", "turned(plan, path)",
+                 "moved(plan, path, k, n)", "cut(plan, path)", "freed(plan, path)"),
+    "freeing": ("freest(program, plan)",),
+    "desk": ("shown(plan)", "answered(job, cells, widths, picks)"),
 }
 
 
