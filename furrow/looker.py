@@ -13,11 +13,16 @@ def looked(program, plan):
     rings = []
     for k, a, l, b, case in cases_met(program):
         bonds = case_bonds(program, k, a, l, b, case)
+        answer = answer_of(program, k, l, bonds)
+        # A case that has no turns by itself needs no more bonds, whatever the
+        # side: most cases are so.
+        bare = answer[0] == "ring"
         for level, side in sides(program, plan, k, l):
-            answer = answer_of(program, k, l, bonds + side_bonds(program, plan, k, l, level, side))
+            if not bare:
+                answer = answer_of(program, k, l, bonds + side_bonds(program, plan, k, l, level, side))
             if answer[0] == "pair":
                 return ("bad", (k, answer[1]), (l, answer[2]), telling_widths(program, plan, level))
-            rings.append((k, a, l, b, case, level, side, answer[1]))
+            rings.append((k, a, l, b, case, level, side, list(answer[1])))
     return ("good", rings)
 
 
