@@ -302,11 +302,46 @@ def taken_faults(tree):
             yield "L19", node.lineno
 
 
+def nested_faults(tree):
+    """L15: a list or dict of a file's top holds tuples, no lists or dicts."""
+    for node in tree.body:
+        if isinstance(node, ast.Assign) and isinstance(node.value, (ast.List, ast.Dict)):
+            inner = [part for part in ast.walk(node.value) if part is not node.value]
+            if any(isinstance(part, (ast.List, ast.Dict)) for part in inner):
+                yield "L15", node.lineno
+
+
+def class_names(tree):
+    """Names of classes, own ones and drawn ones; these are told from defs and numbers by their capitals."""
+    drawn = [alias.name for node in tree.body if isinstance(node, ast.ImportFrom) for alias in node.names]
+    own = [node.name for node in tree.body if isinstance(node, ast.ClassDef)]
+    return own + [name for name in drawn if name[0].isupper() and not name.isupper()]
+
+
+def object_faults(tree):
+    """L18, L28: classes that are handed on, and an __init__ that gives something back."""
+    parents, names = parents_of(tree), class_names(tree)
+    for node in ast.walk(tree):
+        if isinstance(node, ast.Name) and node.id in names and isinstance(node.ctx, ast.Load):
+            parent = parents[node]
+            if isinstance(parent, ast.Tuple):
+                parent = parents[parent]
+            called_one = isinstance(parent, ast.Call) and parent.func is node
+            base = isinstance(parent, ast.Attribute) and parent.attr == "__init__"
+            if not (called_one or base or called(parent) == "isinstance"
+                    or isinstance(parent, (ast.ClassDef, ast.ExceptHandler, ast.Raise))):
+                yield "L18", node.lineno
+        if isinstance(node, ast.FunctionDef) and node.name == "__init__":
+            if any(isinstance(part, ast.Return) and part.value for part in ast.walk(node)):
+                yield "L28", node.lineno
+
+
 def faults_of(source, own_methods=OWN_METHODS):
     """The faults of one file, as pairs of a rule and a row."""
     tree = ast.parse(source)
     found = list(text_faults(source)) + list(top_faults(tree)) + list(placed_faults(tree))
     found += list(kept_faults(tree)) + list(taken_faults(tree))
+    found += list(nested_faults(tree)) + list(object_faults(tree))
     for node in ast.walk(tree):
         if type(node).__name__ not in NODES:
             found.append(("L6, L7", getattr(node, "lineno", 0)))
@@ -423,6 +458,11 @@ WRONG = (
     ("def f(x):\n    for y, z in enumerate(x):\n        x[y] = z\n", "L23"),
     ("def f(x):\n    y = set(x)\n    return y\n", "L24"),
     ("def f(x):\n    for y in set(x):\n        pass\n", "L24"),
+    ("A = {1: [2]}\n", "L15"),
+    ("A = [1, {}]\n", "L15"),
+    ("class A:\n    pass\n\n\ndef f():\n    return A\n", "L18"),
+    ("from furrow.deeds import Deed\n\n\ndef f(x):\n    return [Deed, x]\n", "L18"),
+    ("class A:\n    def __init__(self):\n        return None\n", "L28"),
 )
 
 
@@ -434,6 +474,8 @@ RIGHT = (
     "def f(x, y):\n    return len(set(x) - set(y)) + (x in {1, 2})\n",
     "def f(x):\n    return isinstance(x, (int, tuple)) or isinstance(x, list)\n",
     "def f(x):\n    return ' '.join(reversed(x))\n",
+    "A = {1: (2, (3,)), 4: ()}\n",
+    "from furrow.deeds import Deed\n\n\ndef f(x):\n    return isinstance(x, (int, Deed)) or Deed(x)\n",
 )
 
 
